@@ -1,0 +1,1 @@
+"""Keeprows: a store that keeps the newest rows, exactly at any row."""
