@@ -5,10 +5,15 @@ from keeprows.errors import InvalidNumber, InvalidRow
 ROWS = 10 ** 30
 
 
+def is_from(number, least):
+    """Return whether an object is an integer that is not below least."""
+    # A bool is an int for isinstance, but the document counts it as none.
+    return isinstance(number, int) and not isinstance(number, bool) and least <= number
+
+
 def is_within(number, least, most):
     """Return whether an object is an integer from least to most."""
-    # A bool is an int for isinstance, but the document counts it as none.
-    return isinstance(number, int) and not isinstance(number, bool) and least <= number <= most
+    return is_from(number, least) and number <= most
 
 
 def check_row(row):
@@ -17,7 +22,12 @@ def check_row(row):
         raise InvalidRow(row)
 
 
+def check_number(number, least, most):
+    """Raise InvalidNumber for what is no integer from least to most."""
+    if not is_within(number, least, most):
+        raise InvalidNumber(number)
+
+
 def check_moment(moment):
     """Raise InvalidNumber for what is no moment."""
-    if not is_within(moment, 0, ROWS):
-        raise InvalidNumber(moment)
+    check_number(moment, 0, ROWS)

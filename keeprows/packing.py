@@ -41,32 +41,32 @@ class Packing:
         self._first = page_of_place[starts[-1] % many]
         self._pages = len(starts) - 1 - self._first
         self._rows = starts[-1] - starts[self._first]
-        self._last = self._page_with(ROWS - 1)
+        self._last = self.page_with(ROWS - 1)
 
     def page_of(self, row):
         """Return the number of the heap page of a row."""
         check_row(row)
-        return self._page_with(row)
+        return self.page_with(row)
 
     def first_row(self, page):
         """Return the first row of a heap page."""
         self._check_page(page)
-        return self._start_of(page)
+        return self.start_of(page)
 
     def rows_on(self, page):
         """Return how many rows a heap page gets."""
         self._check_page(page)
-        return self._start_of(page + 1) - self._start_of(page)
+        return self.start_of(page + 1) - self.start_of(page)
 
     def units_on(self, page):
         """Return how many units the rows of a heap page have together."""
         self._check_page(page)
-        return self._units_between(self._start_of(page), self._start_of(page + 1))
+        return self._units_between(self.start_of(page), self.start_of(page + 1))
 
     def units_left(self, row):
         """Return how many units are left on its heap page when a row has been put there."""
         check_row(row)
-        start = self._start_of(self._page_with(row))
+        start = self.start_of(self.page_with(row))
         return self._settings.size - self._units_between(start, row + 1)
 
     def begun(self, moment):
@@ -74,7 +74,7 @@ class Packing:
         check_moment(moment)
         if moment == 0:
             return 0
-        return self._page_with(moment - 1) + 1
+        return self.page_with(moment - 1) + 1
 
     def cycle(self):
         """Return (first, pages, rows): from heap page first on, all comes again."""
@@ -84,12 +84,12 @@ class Packing:
         if not is_within(page, 0, self._last):
             raise InvalidPage(page)
 
-    def _start_of(self, page):
+    def start_of(self, page):
         """Return the first row of any heap page, also beyond the last row."""
         turns = max(0, (page - self._first) // self._pages)
         return self._starts[page - turns * self._pages] + turns * self._rows
 
-    def _page_with(self, row):
+    def page_with(self, row):
         """Return the heap page of any row, also beyond the last one."""
         turns = max(0, (row - self._starts[self._first]) // self._rows)
         near = row - turns * self._rows

@@ -4,8 +4,11 @@ from itertools import product
 from random import Random
 
 from keeprows import errors
+from keeprows.far import Far
 from keeprows.packing import Packing
 from keeprows.settings import Settings
+from keeprows.stores import Store
+from keeprows.turns import Tally, Turn
 
 ROWS = 10 ** 30
 # Behind so many heap pages every packing has come again more than twice.
@@ -25,7 +28,8 @@ def strange_objects():
         frozenset({5}), range(0), range(5), slice(0, 5), object(), object, int, bool, list, len, "5".join, lambda: 5,
         iter([5]), (number for number in [5]), zip([5]), enumerate([5]), map(int, "5"), reversed([5]), {5: 5}.items(),
         ValueError("5"), errors.StoreError("5"), errors.InvalidRow(5), errors.LimitExceeded, Settings, Packing,
-        settings, Packing(settings), settings.length_of, errors,
+        settings, Packing(settings), settings.length_of, errors, Turn([], [], 0), Tally({}), Store(settings), Store,
+        Far(settings), Far(settings).behind(5), Far,
     ]
 
 

@@ -1,0 +1,136 @@
+"""The examples of the document, up to the promises that have landed.
+
+[14]
+
+>>> from keeprows.packing import Packing
+>>> from keeprows.settings import Settings
+>>> packing = Packing(Settings([2, 1, 3], 5, fanout=2, records=3, every=4, keep=9))
+>>> [packing.cycle(), [packing.first_row(page) for page in range(5)], packing.units_on(1), packing.units_left(2)]
+[(0, 3, 6), [0, 2, 4, 6, 8], 5, 2]
+>>> [packing.page_of(10 ** 29), packing.begun(7), packing.rows_on(0)]
+[50000000000000000000000000000, 4, 2]
+
+[15]
+
+>>> from keeprows.settings import Settings
+>>> from keeprows.trees import live_pages, next_border
+>>> s = Settings([1], 1, fanout=2, records=4, every=10, keep=3)
+>>> [live_pages(s, 6), next_border(s, 5, 2)]
+[(3, 6), (8, 8)]
+
+[16]
+
+>>> from keeprows.settings import Settings
+>>> from keeprows.trees import covered, node_over
+>>> s = Settings([1], 1, fanout=2, records=4, every=10, keep=3)
+>>> [covered(s, (2, 1)), node_over(s, 5, 0)]
+[(8, 16), (0, 2)]
+
+[17]
+
+>>> from keeprows.settings import Settings
+>>> from keeprows.trees import tree_nodes, tree_root
+>>> s = Settings([1], 1, fanout=2, records=4, every=10, keep=3)
+>>> [tree_nodes(s, 6), tree_nodes(s, 7), tree_root(s, 2 ** 90 + 1)]
+[[(0, 1), (0, 2), (1, 0), (1, 1), (2, 0)], [(0, 2), (0, 3), (1, 1)], (90, 0)]
+
+[18]
+
+>>> from keeprows.settings import Settings
+>>> from keeprows.trees import children, parent
+>>> s = Settings([1], 1, fanout=2, records=4, every=10, keep=3)
+>>> [children(s, 6, (1, 0)), children(s, 6, (0, 1)), parent(s, 6, (0, 1))]
+[[(0, 1)], [3], (1, 0)]
+
+[19]
+
+>>> from keeprows.settings import Settings
+>>> from keeprows.trees import path_to
+>>> s = Settings([1], 1, fanout=2, records=4, every=10, keep=3)
+>>> path_to(s, 6, 4)
+[((2, 0), 1), ((1, 1), 0), ((0, 2), 0)]
+
+[20]
+
+>>> from keeprows.settings import Settings
+>>> from keeprows.trees import begun_by, ended_by
+>>> s = Settings([1], 1, fanout=2, records=4, every=10, keep=3)
+>>> [begun_by(s, 4), ended_by(s, 4), ended_by(s, 6)]
+[(4, [(0, 2), (1, 1), (2, 0)]), (1, [(0, 0)]), (3, [(0, 1), (1, 0), (2, 0)])]
+
+[21]
+
+>>> from keeprows.settings import Settings
+>>> from keeprows.trees import node_times
+>>> s = Settings([1], 1, fanout=2, records=4, every=10, keep=3)
+>>> [node_times(s, (2, 0)), node_times(s, (0, 1))]
+[[(5, 7), (9, 11)], [(3, 7)]]
+
+[24]
+
+>>> from keeprows.turns import Turn
+>>> take = Turn([("use", 0), ("list", 0)], [], 1)
+>>> free = Turn([("use", 1)], [("use", 0)], 0)
+>>> [take.ahead(), take.behind(), take.goal(("list", 3)), free.origin(("list", 1))]
+[1, 2, ('list', 2), ('list', 0)]
+
+[25]
+
+>>> from keeprows.turns import Turn, way
+>>> take = Turn([("use", 0), ("list", 0)], [], 1)
+>>> free = Turn([("use", 1)], [("use", 0)], 0)
+>>> [take.then(free) == Turn([("list", 0)], [("use", 0)], 1), way([take, free], ("list", 0))]
+[True, [('list', 0), ('use', 1), ('use', 0)]]
+
+[26]
+
+>>> from keeprows.turns import Tally, Turn, both
+>>> take = Turn([("use", 0), ("list", 0)], [], 1)
+>>> one = Tally({("list", 0): {"heap": 1, "write": 2}})
+>>> other = Tally({("use", 1): {"write": 3}, ("list", 0): {"log": 1}})
+>>> both(take, one, other) == Tally({("list", 0): {"heap": 1, "write": 5}, ("list", 1): {"log": 1}})
+True
+
+[35]
+
+>>> from keeprows.settings import Settings
+>>> from keeprows.stores import Store
+>>> store = Store(Settings([1], 2, fanout=2, records=2, every=4, keep=3))
+>>> store.step()
+[('take', 0, ('log', 0)), ('record', 0, 0), ('take', 1, ('heap', 0)), ('take', 2, ('node', 0, 0)), ('put', 1, 0)]
+>>> [store.steps(3), store.heap_pages(), store.root(), store.log_pages(), store.changed_pages(), store.free_pages(3)]
+[13, [(0, 1), (1, 4)], (0, 0, 2), [], [], [3, 0, 5]]
+
+[76]
+
+>>> from keeprows.settings import Settings
+>>> from keeprows.sizes import greatest_height, height_count, height_sum, next_height
+>>> s = Settings([1], 1, fanout=2, records=4, every=10, keep=3)
+>>> [height_count(s, 3, 0, 11), height_sum(s, 0, 7), next_height(s, 7, 4), greatest_height(s, 0, 10 ** 6)]
+[4, 12, 9, (20, 524289)]
+
+[78]
+
+>>> from keeprows.far import Far
+>>> from keeprows.settings import Settings
+>>> from keeprows.sizes import grown, growths
+>>> far = Far(Settings([1], 2, fanout=2, records=2, every=4, keep=3))
+>>> [growths(far, 0, 20), grown(far, 10)]
+[[(1, 3), (3, 5), (5, 7), (7, 9), (11, 11), (19, 13)], 11]
+"""
+
+import doctest
+import sys
+import unittest
+
+
+class ExamplesTest(unittest.TestCase):
+
+    def test_the_examples(self):
+        failed, tried = doctest.testmod(sys.modules[__name__])
+        self.assertEqual(failed, 0)
+        self.assertEqual(tried, 60)
+
+
+if __name__ == "__main__":
+    unittest.main()
