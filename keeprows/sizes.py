@@ -72,7 +72,8 @@ def height_sum(settings, first, last):
     """Return the sum of the heights behind n rows for n from first to last - 1."""
     check_settings(settings)
     check_stretch(first, last)
-    return sum([height_count(settings, least, first, last) for least in range(1, MOST_HEIGHT + 1)])
+    leasts = range(1, MOST_HEIGHT + 1)
+    return sum([high_below(settings, least, last) - high_below(settings, least, first) for least in leasts])
 
 
 def next_height(settings, moment, least):
@@ -99,7 +100,7 @@ def greatest_height(settings, first, last):
     height = tree_height(settings, first)
     found = first
     while True:
-        later = next_height(settings, first, height + 1) if height < MOST_HEIGHT else None
+        later = next_height(settings, first, height + 1)
         if later is None or later >= last:
             return (height, found)
         height += 1
@@ -109,7 +110,7 @@ def greatest_height(settings, first, last):
 def block_with(course, size):
     """Return the first block in which the file grows to so many pages, None if there is none."""
     block = course.first_block
-    while course.begin_of(block) <= ROWS:
+    while course.begin_of(block) < ROWS:
         if len(course.block_span(block).order) >= size:
             return block
         zeros = zeros_of(course.fanout, block)

@@ -112,6 +112,7 @@ def put_row(state, events):
     if state.done == state.next_begin:
         begin_heap_page(state, events)
     page = state.heap[state.after - 1]
+    # So a heap page that has just been taken is changed, too.
     state.changed[page] = True
     events.append(("put", page, state.done))
 
@@ -120,7 +121,6 @@ def begin_heap_page(state, events):
     """Take pages for the next heap page, and for the nodes that begin with it."""
     number = state.after
     state.heap[number] = take_page(state, ("heap", number), events)
-    state.changed[state.heap[number]] = True
     begun = nodes_beyond(state.settings.fanout, state.first, number, state.first, number - 1)
     for level, index in begun:
         page = take_page(state, ("node", level, index), events)

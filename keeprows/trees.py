@@ -171,11 +171,13 @@ def ended_by(settings, row):
 def stretches_of(settings, node):
     """Return the ascending list of stretches (first, after) that make up the times of a node, also touching ones."""
     packing = Packing(settings)
-    first, after = covered(settings, node)
-    if node[0] == 0:
-        return [(packing.start_of(first) + 1, packing.start_of(after) + settings.keep)]
+    level, index = node
     # The borders of the node's level: the first heap page of each child, and the page behind them all.
-    step = power(settings.fanout, node[0])
+    step = power(settings.fanout, level)
+    first = index * settings.fanout * step
+    after = first + settings.fanout * step
+    if level == 0:
+        return [(packing.start_of(first) + 1, packing.start_of(after) + settings.keep)]
     starts = [packing.start_of(page) for page in range(first, after + 1, step) if page > 0]
     return [(start + 1, start + settings.keep) for start in starts if settings.keep > 1]
 

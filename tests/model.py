@@ -213,16 +213,31 @@ def random_settings(chance, most_keep=100, most_every=40):
     )
 
 
-def many_settings(seed, many, most_keep=100, most_every=40):
-    """Settings at the bounds, and some of all sizes."""
-    chance = Random(seed)
-    found = [
+def special_settings():
+    """Settings at the bounds, and such with a packing or blocks that are rare."""
+    return [
         make([1], 1, 2, 4, 10, 3), make([1], 2, 2, 2, 4, 3), make([1], 1, 2, 1, 1, 1), make([1], 64, 8, 16, 40, 100),
         make([1], 1, 2, 16, 40, 100), make([64] * 6, 64, 8, 1, 7, 2), make([2, 1, 3], 5, 3, 3, 4, 9),
-        make([1, 2, 1], 2, 2, 3, 5, 7), make([1, 1, 2], 3, 4, 2, 6, 1), make([5, 4, 3, 2, 1, 6], 6, 5, 5, 9, 20),
+        make([1, 1, 2], 3, 4, 2, 6, 1), make([5, 4, 3, 2, 1, 6], 6, 5, 5, 9, 20), make([1], 1, 2, 3, 10, 100),
+        # Ahead of the part that comes again there are heap pages of their own.
+        make([1, 2, 1], 2, 2, 3, 5, 7), make([3, 3, 2, 2, 2, 48], 63, 2, 3, 5, 20),
+        make([7, 13, 10, 1, 12, 14], 24, 3, 1, 5, 4),
+        # The first block is number 2.
+        make([1, 2, 1], 2, 3, 13, 12, 25), make([3, 3, 2, 2, 2, 48], 63, 6, 7, 15, 1),
+        make([2, 9, 7, 2, 8, 20], 64, 3, 14, 6, 35), make([1, 2, 1, 1, 2], 5, 7, 5, 8, 6),
+        # The file grows in a block that ends with fewer zeros than one ahead of it.
+        make([3, 2, 5, 1], 6, 2, 3, 14, 23),
     ]
-    found = [one for one in found if one.keep <= most_keep and one.every <= most_every]
-    return found + [random_settings(chance, most_keep, most_every) for _ in range(many - len(found))]
+
+
+def many_settings(seed, many, most_keep=100, most_every=40):
+    """Special settings, and some of all sizes."""
+    chance = Random(seed)
+    found = [one for one in special_settings() if one.keep <= most_keep and one.every <= most_every]
+    found = chance.sample(found, min(len(found), (many + 1) // 2))
+    found += [random_settings(chance, most_keep, most_every) for _ in range(many - len(found))]
+    chance.shuffle(found)
+    return found
 
 
 def plain_phases(settings):

@@ -2,6 +2,7 @@
 
 import unittest
 from random import Random
+from unittest.mock import patch
 
 from keeprows import sizes
 from keeprows.blocks import uses
@@ -13,7 +14,7 @@ from keeprows.sizes import greatest_height, grown, growths, height_count, height
 from keeprows.stores import Store
 from keeprows.trees import next_border, tree_height
 
-from model import far_settings, many_settings
+from model import far_settings, is_limited, many_settings, special_settings
 from plain import ROWS, make
 from refusals import WRONG_FAR, WRONG_MOMENT, WRONG_SETTINGS, check_refusals, numbers_but
 
@@ -188,6 +189,42 @@ class FileTest(unittest.TestCase):
                 else:
                     with self.assertRaises(LimitExceeded):
                         growths(far, first, last)
+
+    def check_all_growths(self, settings, rows):
+        """Check the moments of all sizes, and the growths one by one, for so many rows."""
+        far, store, size = Far(settings), Store(settings), 0
+        while store.moment() < rows:
+            store.step()
+            if store.file_size() > size:
+                for pages in range(size + 1, store.file_size() + 1):
+                    self.assertEqual(grown(far, pages), store.moment())
+                size = store.file_size()
+                told = growths(far, store.moment() - 1, store.moment())
+                self.assertEqual(told, [(store.moment(), size)])
+        self.assertTrue(grown(far, size + 1) is None or grown(far, size + 1) > rows)
+
+    def test_several_thousand_rows(self):
+        for settings in [one for one in special_settings() if not is_limited(one)]:
+            self.check_all_growths(settings, 4000)
+
+    def test_a_growth_in_a_block_with_few_zeros(self):
+        # Block 6 is the first one with 53 pages, though block 4 ends with more zeros.
+        settings = make([3, 2, 5, 1], 6, 2, 3, 14, 23)
+        far = Far(settings)
+        self.assertEqual(far.block_of(grown(far, 53) - 1), 6)
+
+    def test_no_moment_behind_the_last_one(self):
+        # With another last row the program finds the same growths up to there, and no later one.
+        for settings in [EXAMPLE, make([1, 2, 1], 2, 3, 13, 12, 25)]:
+            far = Far(settings)
+            for size in [1, 5, 10, 30, 50, 100]:
+                moment = grown(far, size)
+                with patch("keeprows.sizes.ROWS", moment):
+                    self.assertEqual(grown(far, size), moment)
+                    self.assertEqual(growths(far, moment - 1, moment), [(moment, far.behind(moment).file_size())])
+                for last in [moment - 1, moment - 2, moment // 2]:
+                    with patch("keeprows.sizes.ROWS", last):
+                        self.assertIsNone(grown(far, size))
 
     def test_far_sizes(self):
         for settings in far_settings(192, 30):
