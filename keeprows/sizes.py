@@ -1,11 +1,10 @@
 """Heights of the tree, and sizes of the file."""
 
-from math import gcd
-
 from keeprows.checks import ROWS, check_moment, check_number, is_from
 from keeprows.courses import zeros_of
 from keeprows.errors import InvalidArgument, InvalidNumber, LimitExceeded
 from keeprows.far import Far
+from keeprows.heights import Heights, border_level
 from keeprows.nodes import power
 from keeprows.packing import Packing
 from keeprows.settings import check_settings
@@ -28,52 +27,25 @@ def check_far(far):
         raise InvalidArgument("far")
 
 
-def sum_of_gaps(packing, step, most, last):
-    """Return the sum of the rows between the borders number k and k + 1, at most so many each, for k from 1 below last.
-
-    Border number k is heap page k * step.
-    """
-    first, pages, _ = packing.cycle()
-    # From border number early on, the gaps come again behind so many borders.
-    early = first // step + 1
-    period = pages // gcd(pages, step)
-    later = max(0, last - early)
-    near = list(range(1, min(early, last)))
-    rounds = list(range(early, early + period))
-    starts = {number: packing.start_of(number * step) for number in range(1, early + period + 1)}
-    gaps = {number: min(most, starts[number + 1] - starts[number]) for number in near + rounds}
-    total = sum([gaps[number] for number in near]) + later // period * sum([gaps[number] for number in rounds])
-    return total + sum([gaps[number] for number in rounds[:later % period]])
-
-
-def high_below(settings, least, moment):
-    """Return behind how many numbers of rows below a moment the height is at least so great."""
-    if least == 1:
-        return max(0, moment - 1)
-    packing = Packing(settings)
-    step = power(settings.fanout, least - 1)
-    # The height is so great behind keep - 1 numbers of rows from behind the first row of each border on.
-    most = settings.keep - 1
-    last = packing.page_with(max(0, moment - 2)) // step
-    if last == 0:
-        return 0
-    return sum_of_gaps(packing, step, most, last) + min(most, moment - 1 - packing.start_of(last * step))
-
-
 def height_count(settings, least, first, last):
     """Return for how many n from first to last - 1 the height behind n rows is at least so great."""
     check_settings(settings)
     check_number(least, 1, MOST_HEIGHT)
     check_stretch(first, last)
-    return high_below(settings, least, last) - high_below(settings, least, first)
+    if least == 1:
+        # It is so for all n but 0.
+        return max(1, last) - max(1, first)
+    heights = Heights(settings)
+    step = power(settings.fanout, least - 1)
+    return heights.above(step, last) - heights.above(step, first)
 
 
 def height_sum(settings, first, last):
     """Return the sum of the heights behind n rows for n from first to last - 1."""
     check_settings(settings)
     check_stretch(first, last)
-    leasts = range(1, MOST_HEIGHT + 1)
-    return sum([high_below(settings, least, last) - high_below(settings, least, first) for least in leasts])
+    heights = Heights(settings)
+    return heights.sum_below(last) - heights.sum_below(first)
 
 
 def next_height(settings, moment, least):
@@ -98,13 +70,17 @@ def greatest_height(settings, first, last):
     if first == last:
         return None
     height = tree_height(settings, first)
-    found = first
-    while True:
-        later = next_height(settings, first, height + 1)
-        if later is None or later >= last:
-            return (height, found)
-        height += 1
-        found = later
+    if settings.keep > 1:
+        packing = Packing(settings)
+        # The tree becomes higher only behind the first row of a border.
+        low = max(1, packing.begun(first))
+        level = border_level(settings.fanout, low, packing.begun(last - 1) - 1)
+        if level > 0 and level >= height:
+            step = power(settings.fanout, level)
+            return (level + 1, packing.start_of((low + step - 1) // step * step) + 1)
+    if height == 0 and last > 1:
+        return (1, 1)
+    return (height, first)
 
 
 def block_with(course, size):

@@ -1,5 +1,6 @@
 """Heights and file sizes: [75] to [79], and what [2], [3] and [7] say of them."""
 
+import time
 import unittest
 from random import Random
 from unittest.mock import patch
@@ -168,6 +169,38 @@ class NextHeightTest(unittest.TestCase):
         self.assertEqual(height_sum(settings, 0, ROWS), ROWS - 1)
         self.assertEqual(greatest_height(EACH_ITS_OWN, 0, ROWS), (100, 2 ** 99 + 1))
         self.assertEqual([greatest_height(EACH_ITS_OWN, 0, 1), greatest_height(EACH_ITS_OWN, 0, 0)], [(0, 0), None])
+
+
+    def test_greatest_heights_step_by_step(self):
+        # From the first height on, each greater one is looked for with the one ahead of it.
+        chance = Random(183)
+        for settings in many_settings(183, 60):
+            for first in far_starts(settings, chance, 8) + [0, 1, chance.randint(0, ROWS - 200)]:
+                last = min(ROWS, first + chance.randint(1, 10 ** chance.randint(1, 30)))
+                found = (tree_height(settings, first), first)
+                while True:
+                    later = next_height(settings, first, found[0] + 1)
+                    if later is None or later >= last:
+                        break
+                    found = (found[0] + 1, later)
+                self.assertEqual(greatest_height(settings, first, last), found, (vars(settings), first, last))
+
+
+class SpeedTest(unittest.TestCase):
+
+    def test_thousands_of_questions(self):
+        chance = Random(184)
+        for settings in [make([1, 2, 1, 3, 1, 1], 4, 2, 4, 10, 60), make([1], 1, 2, 4, 10, 100), EXAMPLE]:
+            before = time.process_time()
+            for _ in range(1000):
+                first = chance.randint(0, 300)
+                self.assertGreaterEqual(height_sum(settings, first, first + chance.randint(0, 300)), 0)
+                self.assertGreater(height_sum(settings, chance.randint(0, 10 ** 29), ROWS), 0)
+                self.assertGreater(height_count(settings, 3, chance.randint(0, 10 ** 29), ROWS), 0)
+                self.assertGreater(greatest_height(settings, chance.randint(0, 10 ** 29), ROWS)[0], 80)
+                self.assertGreater(next_height(settings, chance.randint(0, 10 ** 29), 80), 0)
+            # A thousand of each take some tenths of a second; the limit is for slow machines.
+            self.assertLess(time.process_time() - before, 3)
 
 
 class FileTest(unittest.TestCase):
