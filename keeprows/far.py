@@ -2,7 +2,9 @@
 
 from keeprows.checks import ROWS, check_moment, is_from
 from keeprows.courses import Course
-from keeprows.errors import InvalidNumber
+from keeprows.errors import InvalidArgument, InvalidNumber
+from keeprows.growth import Growth
+from keeprows.spans import part_of
 from keeprows.stores import Book
 from keeprows.turns import KINDS, Tally, Turn
 
@@ -19,8 +21,9 @@ class Far:
 
     def __init__(self, settings):
         # The first one raises the errors of wrong settings.
-        self.course = Course(settings, ())
-        self._counted = Course(settings, KINDS)
+        self.course = Course(settings, False)
+        self.counted = Course(settings, True)
+        self.growth = Growth(self.course)
         self.settings = settings
 
     def behind(self, moment):
@@ -45,11 +48,11 @@ class Far:
     def counts(self, first, last):
         """Return the Tally of the blocks from first to last - 1."""
         self._check_blocks(first, last)
-        tallies = self._counted.between(first, last).tallies
-        ahead = self.course.many_at(first)
+        sums = self.counted.between(first, last).sums
+        ahead = self.counted.many_at(first)
         told = {}
-        for position in range(len(tallies[0])):
-            told[place_of(position, ahead)] = {kind: tallies[at][position] for at, kind in enumerate(KINDS)}
+        for position, total in enumerate(sums):
+            told[place_of(position, ahead)] = {kind: part_of(total, at) for at, kind in enumerate(KINDS)}
         return Tally(told)
 
     def _check_blocks(self, first, last):
@@ -60,3 +63,9 @@ class Far:
 
     def _is_block_from(self, block, least):
         return is_from(block, least) and self.course.begin_of(block) <= ROWS
+
+
+def check_far(far):
+    """Raise InvalidArgument for what is no Far."""
+    if not isinstance(far, Far):
+        raise InvalidArgument("far")

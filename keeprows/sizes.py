@@ -1,14 +1,12 @@
 """Heights of the tree, and sizes of the file."""
 
 from keeprows.checks import ROWS, check_moment, check_number, is_from
-from keeprows.courses import zeros_of
-from keeprows.errors import InvalidArgument, InvalidNumber, LimitExceeded
-from keeprows.far import Far
+from keeprows.errors import InvalidNumber, LimitExceeded
+from keeprows.far import check_far
 from keeprows.heights import Heights, border_level
 from keeprows.nodes import power
 from keeprows.packing import Packing
 from keeprows.settings import check_settings
-from keeprows.states import do_row
 from keeprows.trees import next_border, tree_height
 
 MOST_HEIGHT = 111
@@ -19,12 +17,6 @@ def check_stretch(first, last):
     """Raise InvalidNumber for what is no moment, or for what is no moment from that one on."""
     check_moment(first)
     check_number(last, first, ROWS)
-
-
-def check_far(far):
-    """Raise InvalidArgument for what is no Far."""
-    if not isinstance(far, Far):
-        raise InvalidArgument("far")
 
 
 def height_count(settings, least, first, last):
@@ -83,51 +75,15 @@ def greatest_height(settings, first, last):
     return (height, first)
 
 
-def block_with(course, size):
-    """Return the first block in which the file grows to so many pages, None if there is none."""
-    block = course.first_block
-    while course.begin_of(block) < ROWS:
-        if len(course.block_span(block).order) >= size:
-            return block
-        zeros = zeros_of(course.fanout, block)
-        while len(course.inner_span(block, zeros).order) >= size:
-            zeros -= 1
-        block += power(course.fanout, zeros)
-    return None
-
-
-def state_ahead_of(course, size):
-    """Return a state, not far ahead of the moment behind which the file has so many pages first.
-
-    None stands for such a state if there is no such moment.
-    """
-    near = [len(span.order) for span in course.near_spans()]
-    if near[-1] >= size:
-        return course.near_state(len([pages for pages in near if pages < size]) - 1)
-    block = block_with(course, size)
-    if block is None:
-        return None
-    return course.state_at(block)
-
-
-def moment_with(course, size):
-    """Return the least moment behind which the file has so many pages, None if there is none."""
-    state = state_ahead_of(course, size)
-    if state is None:
-        return None
-    while state.size < size and state.done < ROWS:
-        do_row(state)
-    if state.size < size:
-        return None
-    return state.done
-
-
 def grown(far, size):
     """Return the least n behind which the file has at least so many pages, None if there is none."""
     check_far(far)
     if not is_from(size, 1):
         raise InvalidNumber(size)
-    return moment_with(far.course, size)
+    growth = far.growth.told(far.growth.number_with(size))
+    if growth is None:
+        return None
+    return growth[0]
 
 
 def growths(far, first, last):
@@ -135,12 +91,11 @@ def growths(far, first, last):
     check_far(far)
     check_stretch(first, last)
     found = []
-    size = far.behind(first).file_size()
+    number = far.growth.number_behind(first)
     while True:
-        moment = moment_with(far.course, size + 1)
-        if moment is None or moment > last:
+        growth = far.growth.told(number + len(found))
+        if growth is None or growth[0] > last:
             return found
         if len(found) == MOST_GROWTHS:
             raise LimitExceeded(MOST_GROWTHS)
-        size = far.behind(moment).file_size()
-        found.append((moment, size))
+        found.append(growth)

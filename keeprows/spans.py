@@ -5,27 +5,56 @@ some position on a page stays where it is, as no more pages were taken in betwee
 """
 
 from keeprows.states import do_row, pages_in_order
+from keeprows.turns import KINDS
+
+# What happened to one page stands in one number, with so many bits for each kind: there are at most 10 ** 30 of each.
+BITS = 104
+MASK = (1 << BITS) - 1
 
 
 class Span:
     """What happens between two moments to the page at each position ahead.
 
     order has, for each position behind, the position ahead from which its page comes; further positions stay.
-    tallies has for each kind that is counted how often this happened to the page at each position ahead.
+    sums has, for each position ahead, how often what happened to the page there; it is empty if nothing is counted.
     """
 
-    def __init__(self, order, tallies):
+    def __init__(self, order, sums):
         self.order = order
-        self.tallies = tallies
+        self.sums = sums
 
 
-def still_span(kinds):
+def still_span():
     """Return the span in which nothing happens."""
-    return Span([], [[] for _ in kinds])
+    return Span([], [])
+
+
+def part_of(total, at):
+    """Return how often something of the kind with a number happened to a page."""
+    return (total >> (BITS * at)) & MASK
+
+
+def count_events(events, sums):
+    """Add events to a dict from pages to what happened to them."""
+    for event in events:
+        kind = event[0]
+        if kind == "take":
+            kind = event[2][0]
+        if kind in KINDS:
+            sums[event[1]] = sums.get(event[1], 0) + (1 << (BITS * KINDS.index(kind)))
+
+
+def goal_of(span, position):
+    """Return the position behind to which the page at a position ahead comes."""
+    if position < len(span.order):
+        return span.order.index(position)
+    return position
 
 
 def added(pool, sums, more):
     """Return sums by position ahead, with more of them that are told by the positions behind."""
+    if not more:
+        return sums
     total = sums + [0] * (len(pool) - len(sums))
     for position, number in enumerate(more):
         total[pool[position]] += number
@@ -36,29 +65,38 @@ def joined(first, later):
     """Return the span of one span and of a later one that follows it."""
     pool = first.order + list(range(len(first.order), len(later.order)))
     order = [pool[position] for position in later.order] + pool[len(later.order):]
-    tallies = [added(pool, first.tallies[at], later.tallies[at]) for at in range(len(first.tallies))]
-    return Span(order, tallies)
+    return Span(order, added(pool, first.sums, later.sums))
 
 
-def count_events(events, sums):
-    """Add events to dicts from kinds to dicts from pages to numbers."""
-    for event in events:
-        kind = event[0]
-        if kind == "take":
-            kind = event[2][0]
-        if kind in sums:
-            sums[kind][event[1]] = sums[kind].get(event[1], 0) + 1
+def widened(span, place, more):
+    """Return the span in which as many more pages are taken ahead of the one at a place, and come back behind it.
+
+    The same happens to them as to that one. The last one that is taken comes back first.
+    """
+    order = [position if position < place else position + more for position in span.order]
+    at = span.order.index(place) + 1
+    order = order[:at] + list(range(place + more - 1, place - 1, -1)) + order[at:]
+    return Span(order, span.sums[:place] + span.sums[place:place + 1] * more + span.sums[place:])
 
 
-def run_spans(state, moments, kinds):
+def narrowed(span, place, fewer):
+    """Return the span without so many pages from a place on: what widened undoes."""
+    order = [
+        position if position < place else position - fewer
+        for position in span.order if position < place or position >= place + fewer
+    ]
+    return Span(order, span.sums[:place] + span.sums[place + fewer:])
+
+
+def run_spans(state, moments, counted):
     """Do rows from a state on, whose pages are numbered by position: the spans up to each of ascending moments."""
-    sums = {kind: {} for kind in kinds}
+    found = {}
     spans = []
     for moment in moments:
         while state.done < moment:
             events = do_row(state)
-            if kinds:
-                count_events(events, sums)
-        tallies = [[sums[kind].get(page, 0) for page in range(state.size)] for kind in kinds]
-        spans.append(Span(pages_in_order(state), tallies))
+            if counted:
+                count_events(events, found)
+        sums = [found.get(page, 0) for page in range(state.size)] if counted else []
+        spans.append(Span(pages_in_order(state), sums))
     return spans

@@ -5,10 +5,12 @@ import unittest
 from random import Random
 
 from keeprows.blocks import uses
+from keeprows.courses import Course
 from keeprows.errors import InvalidNumber, LimitExceeded
 from keeprows.far import Far
 from keeprows.packing import Packing
 from keeprows.phases import blocks, phases
+from keeprows.spans import run_spans
 from keeprows.stores import Book, Store
 from keeprows.turns import Tally, Turn, both
 
@@ -301,6 +303,34 @@ class SpeedTest(unittest.TestCase):
             for _ in range(300):
                 far.behind(ROWS - chance.randint(0, 10 ** 29))
             self.assertLess(time.process_time() - before, 60)
+
+    def test_some_hundred_first_far_questions(self):
+        many = [
+            make([1], 12, 2, 3, 36, 30), make([1, 1, 1, 4], 4, 2, 9, 12, 10), make([1], 2, 2, 2, 4, 3),
+            make([1, 2, 1], 2, 3, 13, 12, 25), make([1], 1, 2, 3, 10, 60),
+        ]
+        before = time.process_time()
+        for at in range(100):
+            settings = many[at % len(many)]
+            self.assertGreater(len(Far(settings).counts(100, 10 ** 18).counts()), 0)
+            self.assertGreater(Far(settings).moves(100, 10 ** 18 + at).behind(), 0)
+            self.assertGreater(Far(settings).behind(10 ** 29 + at).file_size(), 0)
+        # They take some seconds; the limit is for slow machines.
+        self.assertLess(time.process_time() - before, 20)
+
+
+class StartTest(unittest.TestCase):
+
+    def test_starts_with_many_zeros_as_plain_rows_have_them(self):
+        chance = Random(162)
+        for settings in far_settings(162, 30):
+            course, packing = Course(settings, True), Packing(settings)
+            for block in far_blocks(settings, chance, 12):
+                state = course.state_at(block)
+                end = packing.first_row(block * blocks(settings)[0]) + settings.keep + settings.every - 1
+                span = run_spans(state, [end - end % settings.every], True)[0]
+                told = course.start_span(block)
+                self.assertEqual([told.order, told.sums], [span.order, span.sums], (vars(settings), block))
 
 
 class WrongArgumentsTest(unittest.TestCase):

@@ -249,15 +249,15 @@ class FileTest(unittest.TestCase):
     def test_no_moment_behind_the_last_one(self):
         # With another last row the program finds the same growths up to there, and no later one.
         for settings in [EXAMPLE, make([1, 2, 1], 2, 3, 13, 12, 25)]:
-            far = Far(settings)
             for size in [1, 5, 10, 30, 50, 100]:
-                moment = grown(far, size)
-                with patch("keeprows.sizes.ROWS", moment):
+                moment = grown(Far(settings), size)
+                with patch("keeprows.growth.ROWS", moment), patch("keeprows.searches.ROWS", moment):
+                    far = Far(settings)
                     self.assertEqual(grown(far, size), moment)
                     self.assertEqual(growths(far, moment - 1, moment), [(moment, far.behind(moment).file_size())])
                 for last in [moment - 1, moment - 2, moment // 2]:
-                    with patch("keeprows.sizes.ROWS", last):
-                        self.assertIsNone(grown(far, size))
+                    with patch("keeprows.growth.ROWS", last), patch("keeprows.searches.ROWS", last):
+                        self.assertIsNone(grown(Far(settings), size))
 
     def test_far_sizes(self):
         for settings in far_settings(192, 30):
