@@ -39,17 +39,34 @@ class Growth:
 
     def number_with(self, size):
         """Return the number of the first growth to so many pages; it may be behind the last one."""
-        number = 0
-        while self.told(number) is not None and self.told(number)[1] < size:
-            number += 1
-        return number
+        while not self._ended and self._seeker.size < size:
+            self._look_on()
+        return self._number_from(1, size)
 
     def number_behind(self, moment):
-        """Return how many growths there are up to a moment."""
-        number = 0
-        while self.told(number) is not None and self.told(number)[0] <= moment:
-            number += 1
-        return number
+        """Return the number of the first growth behind later moments only; it may be behind the last one."""
+        while not self._ended and (not self._found or self._found[-1][0] <= moment):
+            self._look_on()
+        return self._number_from(0, moment + 1)
+
+    def pages_behind(self, moment):
+        """Return how many pages the file has behind so many rows."""
+        number = self.number_behind(moment)
+        if number == 0:
+            return 0
+        return self._found[number - 1][1]
+
+    def _number_from(self, part, least):
+        """Return how many of the growths that were found have a part, which grows with them, that is below a number."""
+        low = 0
+        high = len(self._found)
+        while low < high:
+            middle = (low + high) // 2
+            if self._found[middle][part] < least:
+                low = middle + 1
+            else:
+                high = middle
+        return low
 
     def _look_on(self):
         """Find the next growth, and all others up to the end of its piece."""

@@ -14,20 +14,22 @@ def are_lengths(lengths):
     return all([is_within(length, 1, MOST_UNITS) for length in lengths])
 
 
+def bounds_behind(lengths):
+    """Return (part, least, most) for the other parts, in their order, where rows have these lengths."""
+    return [
+        ("size", max(lengths), MOST_UNITS), ("fanout", 2, 8), ("records", 1, 16), ("every", 1, 40), ("keep", 1, 100),
+    ]
+
+
 class Settings:
     """How a store works."""
 
     def __init__(self, lengths, size, *, fanout, records, every, keep):
         if not are_lengths(lengths):
             raise InvalidSettings("lengths")
-        for part, number, least, most in [
-            ("size", size, max(lengths), MOST_UNITS),
-            ("fanout", fanout, 2, 8),
-            ("records", records, 1, 16),
-            ("every", every, 1, 40),
-            ("keep", keep, 1, 100),
-        ]:
-            if not is_within(number, least, most):
+        given = {"size": size, "fanout": fanout, "records": records, "every": every, "keep": keep}
+        for part, least, most in bounds_behind(lengths):
+            if not is_within(given[part], least, most):
                 raise InvalidSettings(part)
         self.lengths = tuple(lengths)
         self.size = size

@@ -4,6 +4,8 @@ from itertools import product
 from random import Random
 
 from keeprows import errors
+from keeprows.copies import Change, Copy, change, copy_at
+from keeprows.crashes import Disk, disk
 from keeprows.far import Far
 from keeprows.packing import Packing
 from keeprows.settings import Settings
@@ -29,7 +31,8 @@ def strange_objects():
         iter([5]), (number for number in [5]), zip([5]), enumerate([5]), map(int, "5"), reversed([5]), {5: 5}.items(),
         ValueError("5"), errors.StoreError("5"), errors.InvalidRow(5), errors.LimitExceeded, Settings, Packing,
         settings, Packing(settings), settings.length_of, errors, Turn([], [], 0), Tally({}), Store(settings), Store,
-        Far(settings), Far(settings).behind(5), Far,
+        Far(settings), Far(settings).behind(5), Far, disk(Far(settings), 5), copy_at(Far(settings), 5), Disk, Copy,
+        change(Far(settings), 5, 6), Change,
     ]
 
 

@@ -101,6 +101,38 @@ True
 >>> [store.steps(3), store.heap_pages(), store.root(), store.log_pages(), store.changed_pages(), store.free_pages(3)]
 [13, [(0, 1), (1, 4)], (0, 0, 2), [], [], [3, 0, 5]]
 
+[37]
+
+>>> from keeprows.logs import log_takes, log_total, record_place, take_row
+>>> from keeprows.settings import Settings
+>>> settings = Settings([1], 2, fanout=2, records=2, every=5, keep=3)
+>>> [record_place(settings, 8), log_total(settings, 8), log_takes(settings, 8), take_row(settings, 5)]
+[(1, 1), 2, 5, 9]
+
+[66]
+
+>>> from keeprows.settings import Settings
+>>> from keeprows.far import Far
+>>> from keeprows.crashes import disk, needed_until, overwritten, recovered, redone
+>>> far = Far(Settings([1], 2, fanout=2, records=2, every=4, keep=3))
+>>> [disk(far, 6).picture, disk(far, 6).records]
+[(4, [(0, 1), (1, 4)], [(0, 0, 2)], [3, 0], 5), [(4, 1), (5, 1)]]
+>>> redone(disk(far, 5))
+[('take', 3, ('log', 0)), ('take', 0, ('heap', 2)), ('take', 5, ('node', 0, 1)), ('take', 6, ('node', 1, 0)), ('put', 0, 4), ('give', 1, ('heap', 0))]
+>>> [recovered(disk(far, 6)).heap_pages(), overwritten(far, 6), needed_until(far, 6, 4)]
+[[(1, 4), (2, 0)], [3], 8]
+
+[70]
+
+>>> from keeprows.settings import Settings
+>>> from keeprows.far import Far
+>>> from keeprows.copies import change, content, copy_at, rows_in
+>>> far = Far(Settings([1], 2, fanout=2, records=2, every=4, keep=3))
+>>> [content(far, 6, page) for page in [0, 1, 2, 6]]
+[('heap', 2, 4, 6), None, ('node', 0, 0, ((1, 4),)), ('node', 1, 0, ((0, 2), (1, 5)))]
+>>> [sorted(change(far, 4, 6).contents), change(far, 4, 6).gone, rows_in(copy_at(far, 6))]
+[[0, 2, 5, 6], [1], [3, 4, 5]]
+
 [76]
 
 >>> from keeprows.settings import Settings
@@ -117,6 +149,18 @@ True
 >>> far = Far(Settings([1], 2, fanout=2, records=2, every=4, keep=3))
 >>> [growths(far, 0, 20), grown(far, 10)]
 [[(1, 3), (3, 5), (5, 7), (7, 9), (11, 11), (19, 13)], 11]
+
+[83]
+
+>>> from keeprows.comparing import first_parting, least_files, next_larger, turning_points
+>>> from keeprows.far import Far
+>>> from keeprows.settings import Settings
+>>> far = Far(Settings([1], 2, fanout=2, records=2, every=4, keep=3))
+>>> low = Far(Settings([1], 2, fanout=2, records=2, every=4, keep=1))
+>>> [first_parting(far.settings, low.settings), first_parting(far.settings, Settings([2], 4, fanout=2, records=2, every=4, keep=3))]
+[2, None]
+>>> [least_files([far, low], 4), turning_points([far, low], 0, 5), next_larger(far, low, 0)]
+[[0, 1], [(0, [0, 1]), (5, [1])], 5]
 """
 
 import doctest
@@ -129,7 +173,7 @@ class ExamplesTest(unittest.TestCase):
     def test_the_examples(self):
         failed, tried = doctest.testmod(sys.modules[__name__])
         self.assertEqual(failed, 0)
-        self.assertEqual(tried, 60)
+        self.assertEqual(tried, 84)
 
 
 if __name__ == "__main__":
