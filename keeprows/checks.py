@@ -1,6 +1,6 @@
 """Checks of numbers that callers hand in: any object may come."""
 
-from keeprows.errors import InvalidNumber, InvalidRow
+from keeprows.errors import InvalidArgument, InvalidNumber, InvalidPage, InvalidRow
 
 ROWS = 10 ** 30
 
@@ -31,3 +31,21 @@ def check_number(number, least, most):
 def check_moment(moment):
     """Raise InvalidNumber for what is no moment."""
     check_number(moment, 0, ROWS)
+
+
+def check_page(page):
+    """Raise InvalidPage for what is no integer from 0 on."""
+    if not is_from(page, 0):
+        raise InvalidPage(page)
+
+
+def check_number_from(number, least):
+    """Raise InvalidNumber for what is no integer from least on."""
+    if not is_from(number, least):
+        raise InvalidNumber(number)
+
+
+def check_kind(kind, kinds):
+    """Raise InvalidArgument for what is neither one of some kinds nor None."""
+    if kind is not None and not (isinstance(kind, str) and kind in kinds):
+        raise InvalidArgument("kind")

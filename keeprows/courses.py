@@ -34,6 +34,17 @@ def zeros_up_to(fanout, block, last):
     return zeros
 
 
+def parts_between(course, first, last):
+    """Return the spans, one behind the other, that make up the blocks from first to last - 1."""
+    parts = []
+    block = first
+    while block < last:
+        zeros = zeros_up_to(course.fanout, block, last)
+        parts += [course.start_span(block), course.tail_span(block, zeros)]
+        block += power(course.fanout, zeros)
+    return parts
+
+
 class Course:
     """The spans of the blocks of a store, and its state behind any number of rows.
 
@@ -45,7 +56,7 @@ class Course:
         self.width, self.first_block = blocks(settings)
         self.fanout = settings.fanout
         self.packing = Packing(settings)
-        self._phases = phases(settings)[0]
+        self.many_phases = phases(settings)[0]
         self._settings = settings
         self._counted = counted
         self._jump = settings.every * (FEW_ROWS // settings.every + 1)
@@ -70,7 +81,7 @@ class Course:
 
     def phase_of(self, block):
         """Return the phase of the first heap page of a block."""
-        return block * self.width % self._phases
+        return block * self.width % self.many_phases
 
     def many_at(self, block):
         """Return how many pages are in use at the beginning of a block."""
@@ -104,9 +115,23 @@ class Course:
         """Return the span of the start of a block."""
         key = (zeros_of(self.fanout, block), self.phase_of(block))
         if key not in self._starts:
-            base, place = self._start_base(block)
+            base, place = self.start_base(block)
             self._starts[key] = widened(base, place, 2 * key[0])
         return self._starts[key]
+
+    def start_base(self, block):
+        """Return (span, place): the start of a block as if it ended with no zero, and where its topmost node is taken.
+
+        For each zero there are two more nodes, which are taken just ahead of that one, given back just ahead of it,
+        and written as often as it is.
+        """
+        phase = self.phase_of(block)
+        if phase not in self._bases:
+            state = self.state_at(block)
+            place = self._topmost_place(state)
+            span = run_spans(state, [self._settled_in(block)], self._counted)[0]
+            self._bases[phase] = (narrowed(span, place, 2 * zeros_of(self.fanout, block)), place)
+        return self._bases[phase]
 
     def rest_spans(self, block):
         """Return the spans of the rest of a block, one behind each few rows, the last one to its end."""
@@ -135,20 +160,10 @@ class Course:
             self._tails[key] = span
         return self._tails[key]
 
-    def parts_between(self, first, last):
-        """Return the spans, one behind the other, that make up the blocks from first to last - 1."""
-        parts = []
-        block = first
-        while block < last:
-            zeros = zeros_up_to(self.fanout, block, last)
-            parts += [self.start_span(block), self.tail_span(block, zeros)]
-            block += power(self.fanout, zeros)
-        return parts
-
     def between(self, first, last):
         """Return the span of the blocks from first to last - 1."""
         span = still_span()
-        for part in self.parts_between(first, last):
+        for part in parts_between(self, first, last):
             span = joined(span, part)
         return span
 
@@ -198,7 +213,7 @@ class Course:
         block = self.block_at(moment)
         if block < self.first_block:
             return []
-        return [self.near_spans()[-1]] + self.parts_between(self.first_block, block)
+        return [self.near_spans()[-1]] + parts_between(self, self.first_block, block)
 
     def stop_with_span(self, moment):
         """Return (span, state): the span from 0 rows to the stop ahead of a moment, and the state there."""
@@ -221,20 +236,6 @@ class Course:
         """Return behind which checkpoint nothing is left of the nodes at the border with which a block begins."""
         every = self._settings.every
         return (self.begin_of(block) + self._settings.keep + every - 1) // every * every
-
-    def _start_base(self, block):
-        """Return (span, place): the start of a block as if it ended with no zero, and where its topmost node is taken.
-
-        For each zero there are two more nodes, which are taken just ahead of that one, given back just ahead of it,
-        and written as often as it is.
-        """
-        phase = self.phase_of(block)
-        if phase not in self._bases:
-            state = self.state_at(block)
-            place = self._topmost_place(state)
-            span = run_spans(state, [self._settled_in(block)], self._counted)[0]
-            self._bases[phase] = (narrowed(span, place, 2 * zeros_of(self.fanout, block)), place)
-        return self._bases[phase]
 
     def _topmost_place(self, state):
         """Return at which position the next row takes a page for its first node of a block's width or more."""

@@ -4,6 +4,7 @@ from keeprows.checks import ROWS, check_moment, is_from
 from keeprows.courses import Course
 from keeprows.errors import InvalidArgument, InvalidNumber
 from keeprows.growth import Growth
+from keeprows.links import LinkCourse
 from keeprows.spans import part_of
 from keeprows.stores import Book
 from keeprows.turns import KINDS, Tally, Turn
@@ -24,6 +25,7 @@ class Far:
         self.course = Course(settings, False)
         self.counted = Course(settings, True)
         self.growth = Growth(self.course)
+        self.links = LinkCourse(self.course)
         self.settings = settings
 
     def behind(self, moment):

@@ -10,6 +10,9 @@ from keeprows.turns import KINDS
 # What happened to one page stands in one number, with so many bits for each kind: there are at most 10 ** 30 of each.
 BITS = 104
 MASK = (1 << BITS) - 1
+# Where two of the kinds stand among KINDS.
+RECORD_PART = 3
+WRITE_PART = 4
 
 
 class Span:
@@ -34,12 +37,22 @@ def part_of(total, at):
     return (total >> (BITS * at)) & MASK
 
 
+def writes_of(total):
+    """Return how often a page was written, by records and at checkpoints."""
+    return part_of(total, RECORD_PART) + part_of(total, WRITE_PART)
+
+
+def kind_of(event):
+    """Return the kind of what an event tells; for the taking of a page, as what it is taken."""
+    if event[0] == "take":
+        return event[2][0]
+    return event[0]
+
+
 def count_events(events, sums):
     """Add events to a dict from pages to what happened to them."""
     for event in events:
-        kind = event[0]
-        if kind == "take":
-            kind = event[2][0]
+        kind = kind_of(event)
         if kind in KINDS:
             sums[event[1]] = sums.get(event[1], 0) + (1 << (BITS * KINDS.index(kind)))
 
@@ -61,9 +74,14 @@ def added(pool, sums, more):
     return total
 
 
+def pool_of(first, later):
+    """Return the order behind a span, with as many positions at least as a later one has."""
+    return first.order + list(range(len(first.order), len(later.order)))
+
+
 def joined(first, later):
     """Return the span of one span and of a later one that follows it."""
-    pool = first.order + list(range(len(first.order), len(later.order)))
+    pool = pool_of(first, later)
     order = [pool[position] for position in later.order] + pool[len(later.order):]
     return Span(order, added(pool, first.sums, later.sums))
 
