@@ -8,7 +8,7 @@ once, and the spans of many blocks are put together along the digits of their nu
 from keeprows.nodes import nodes_beyond, power
 from keeprows.packing import Packing
 from keeprows.phases import blocks, phases
-from keeprows.spans import joined, narrowed, run_spans, still_span, widened
+from keeprows.spans import joined, joined_all, narrowed, run_spans, still_span, widened
 from keeprows.states import State, do_row, give_pages, pages_in_use, state_behind_checkpoint
 
 # About so many rows are run plainly at most, behind a checkpoint from which the order of all pages is known.
@@ -17,20 +17,18 @@ FEW_ROWS = 64
 
 def zeros_of(fanout, block):
     """Return how many zeros a number from 1 on ends with, written with the fanout as base."""
-    zeros = 0
-    while block % fanout == 0:
-        block //= fanout
-        zeros += 1
-    return zeros
-
-
-def zeros_up_to(fanout, block, last):
-    """Return for how many zeros, with which block ends, fanout ** zeros blocks from it on end by last."""
-    zeros = 0
+    # First 1, 2, 4 .. zeros at once, then what is left of them.
+    steps = []
     step = fanout
-    while block % step == 0 and block + step <= last:
-        zeros += 1
-        step *= fanout
+    while block % step == 0:
+        steps.append(step)
+        step *= step
+    zeros = 0
+    for step in steps[::-1]:
+        zeros *= 2
+        if block % step == 0:
+            block //= step
+            zeros += 1
     return zeros
 
 
@@ -38,10 +36,17 @@ def parts_between(course, first, last):
     """Return the spans, one behind the other, that make up the blocks from first to last - 1."""
     parts = []
     block = first
+    zeros = 0
+    step = 1
     while block < last:
-        zeros = zeros_up_to(course.fanout, block, last)
+        while block % (step * course.fanout) == 0 and block + step * course.fanout <= last:
+            zeros += 1
+            step *= course.fanout
+        while block + step > last:
+            zeros -= 1
+            step //= course.fanout
         parts += [course.start_span(block), course.tail_span(block, zeros)]
-        block += power(course.fanout, zeros)
+        block += step
     return parts
 
 
@@ -67,6 +72,9 @@ class Course:
         self._starts = {}
         self._rests = {}
         self._tails = {}
+        # Anchors are blocks, the first one ahead, each one behind the whole tail of the one before; with their spans.
+        self._anchors = [self.first_block]
+        self._anchored = [still_span()]
         # The last answer of span_to: questions about one block often follow one another.
         self._found_block = None
         self._found = still_span()
@@ -162,15 +170,38 @@ class Course:
 
     def between(self, first, last):
         """Return the span of the blocks from first to last - 1."""
-        span = still_span()
-        for part in parts_between(self, first, last):
-            span = joined(span, part)
-        return span
+        return joined_all(parts_between(self, first, last))
+
+    def reach_anchor(self, number, last):
+        """Return whether the anchor with a number is a block up to the last one, and find it if it is."""
+        while len(self._anchors) <= number:
+            block = self._anchors[-1]
+            zeros = zeros_of(self.fanout, block)
+            if block + power(self.fanout, zeros) > last:
+                return False
+            span = joined(self._anchored[-1], self.start_span(block))
+            self._anchored.append(joined(span, self.tail_span(block, zeros)))
+            self._anchors.append(block + power(self.fanout, zeros))
+        return self._anchors[number] <= last
+
+    def anchor(self, number):
+        """Return (block, span) for an anchor that has been reached: the span is that from the first block to it."""
+        return (self._anchors[number], self._anchored[number])
+
+    def parts_to(self, block):
+        """Return the spans, one behind the other, from 0 rows to the beginning of a block."""
+        number = len(self._anchors) - 1
+        while self.reach_anchor(number + 1, block):
+            number += 1
+        while self._anchors[number] > block:
+            number -= 1
+        anchor, span = self.anchor(number)
+        return [self.near_spans()[-1], span] + parts_between(self, anchor, block)
 
     def span_to(self, block):
         """Return the span from 0 rows to the beginning of a block."""
         if self._found_block != block:
-            self._found = joined(self.near_spans()[-1], self.between(self.first_block, block))
+            self._found = joined_all(self.parts_to(block))
             self._found_block = block
         return self._found
 
@@ -213,16 +244,15 @@ class Course:
         block = self.block_at(moment)
         if block < self.first_block:
             return []
-        return [self.near_spans()[-1]] + parts_between(self, self.first_block, block)
+        return self.parts_to(block)
 
     def stop_with_span(self, moment):
         """Return (span, state): the span from 0 rows to the stop ahead of a moment, and the state there."""
         block = self.block_at(moment)
         parts, state = self.stop_ahead(moment)
-        span = still_span() if block < self.first_block else self.span_to(block)
-        for part in parts:
-            span = joined(span, part)
-        return (span, state)
+        if block >= self.first_block:
+            parts = [self.span_to(block)] + parts
+        return (joined_all(parts), state)
 
     def state_behind(self, moment):
         """Return the state behind so many rows."""

@@ -73,7 +73,7 @@ class Growth:
         if self._block == 0:
             piece = seek(self._course, self._seeker)
         else:
-            piece = seek_from(self._course, self._seeker, self._block)
+            piece = seek_from(self._course, self._seeker, self._block, 0)
         if piece is None:
             self._ended = True
             return

@@ -157,7 +157,7 @@ class Scans:
         if first + len(pages) - 1 == self._last:
             return None
         seeker = StraightSeeker(course.span_to(block).order)
-        piece = seek_from(self._far.links, seeker, block)
+        piece = seek_from(self._far.links, seeker, block, 0)
         if piece is None:
             return None
         number = self._straight_number(piece[0], piece[1], seeker.pages)

@@ -5,7 +5,7 @@ pass_over(span) moves it to the end of the span.
 """
 
 from keeprows.checks import ROWS
-from keeprows.courses import zeros_up_to
+from keeprows.courses import zeros_of
 from keeprows.nodes import power
 
 
@@ -23,31 +23,34 @@ def seek_among(spans, seeker):
     return None
 
 
-def seek_from(course, seeker, block):
+def seek_from(course, seeker, block, zeros):
     """Move a seeker on from the beginning of a block to the piece that has what it seeks: (block, number of the piece).
 
-    The answer is None if there is no such piece up to the last row.
+    The tail for so many zeros is tried first. The answer is None if there is no such piece up to the last row.
     """
     last = course.block_at(ROWS) + 1
-    zeros = 0
+    step = power(course.fanout, zeros)
     narrowing = False
     while block < last:
         start = course.start_span(block)
         if seeker.is_in(start):
             return (block, 0)
         seeker.pass_over(start)
-        if not narrowing:
-            # Greater and greater tails are tried until one has it, so that no greater ones are worked out.
-            zeros = min(zeros, zeros_up_to(course.fanout, block, last))
+        while not narrowing and zeros > 0 and (block % step != 0 or block + step > last):
+            zeros -= 1
+            step //= course.fanout
         while zeros >= 0 and seeker.is_in(course.tail_span(block, zeros)):
             narrowing = True
             zeros -= 1
+            step //= course.fanout
         if zeros < 0:
             return (block, seek_among(course.rest_spans(block), seeker))
         seeker.pass_over(course.tail_span(block, zeros))
-        block += power(course.fanout, zeros)
+        block += step
         if not narrowing:
+            # Greater and greater tails are tried until one has it, so that no greater ones are worked out.
             zeros += 1
+            step *= course.fanout
     return None
 
 
@@ -56,4 +59,10 @@ def seek(course, seeker):
     at = seek_among(course.near_spans(), seeker)
     if at is not None:
         return (0, at)
-    return seek_from(course, seeker, course.first_block)
+    last = course.block_at(ROWS) + 1
+    number = 0
+    while course.reach_anchor(number + 1, last) and not seeker.is_in(course.anchor(number + 1)[1]):
+        number += 1
+    block, span = course.anchor(number)
+    seeker.pass_over(span)
+    return seek_from(course, seeker, block, zeros_of(course.fanout, block))

@@ -86,6 +86,14 @@ def joined(first, later):
     return Span(order, added(pool, first.sums, later.sums))
 
 
+def joined_all(parts):
+    """Return the span of some spans, one behind the other."""
+    span = still_span()
+    for part in parts:
+        span = joined(span, part)
+    return span
+
+
 def widened(span, place, more):
     """Return the span in which as many more pages are taken ahead of the one at a place, and come back behind it.
 
