@@ -184,6 +184,10 @@ class Course:
             self._anchors.append(block + power(self.fanout, zeros))
         return self._anchors[number] <= last
 
+    def anchors_known(self):
+        """Return how many anchors have been reached."""
+        return len(self._anchors)
+
     def anchor(self, number):
         """Return (block, span) for an anchor that has been reached: the span is that from the first block to it."""
         return (self._anchors[number], self._anchored[number])

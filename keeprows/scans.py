@@ -67,6 +67,23 @@ def pages_behind(part, pages):
     return [known[position] for position in part.order] + known[len(part.order):]
 
 
+def pages_on_ways(state, low, high):
+    """Return the pages of the nodes above the heap pages from low to high, each once, and of these, in their order."""
+    fanout = state.settings.fanout
+    pages = []
+    read = {}
+    for number in range(low, high + 1):
+        way = [state.heap[number]]
+        index = number
+        for level in range(root_level(fanout, state.first, state.after - 1) + 1):
+            index //= fanout
+            if (level, index) not in read:
+                read[(level, index)] = True
+                way.append(state.nodes[(level, index)])
+        pages += way[::-1]
+    return pages
+
+
 class StraightSeeker:
     """Seeks the first heap page that stands on the page behind that of the heap page ahead of it."""
 
@@ -108,22 +125,7 @@ class Scans:
         if not is_within(last, first, moment - 1):
             raise InvalidRow(last)
         state = self._far.course.state_behind(moment)
-        low = state.packing.page_with(first)
-        high = state.packing.page_with(last)
-        fanout = state.settings.fanout
-        pages = []
-        for number in range(low, high + 1):
-            # A node is read with the first of these heap pages that is below it.
-            ways = [(-1, number)]
-            index = number // fanout
-            before = (number - 1) // fanout
-            for level in range(root_level(fanout, state.first, state.after - 1) + 1):
-                if number == low or index != before:
-                    ways.append((level, index))
-                index //= fanout
-                before //= fanout
-            pages += [state.heap[index] if level < 0 else state.nodes[(level, index)] for level, index in ways[::-1]]
-        return pages
+        return pages_on_ways(state, state.packing.page_with(first), state.packing.page_with(last))
 
     def jump_sum(self, first, last):
         """Return (jumps, distance) of the pages of the heap pages from first to last, each as long as it is live."""

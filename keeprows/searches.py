@@ -54,15 +54,28 @@ def seek_from(course, seeker, block, zeros):
     return None
 
 
+def last_anchor_ahead(course, seeker, last):
+    """Return the number of the last anchor, up to a last block, ahead of which there is not yet what a seeker seeks."""
+    number = 0
+    beyond = course.anchors_known()
+    while beyond - number > 1:
+        middle = (number + beyond) // 2
+        if seeker.is_in(course.anchor(middle)[1]):
+            beyond = middle
+        else:
+            number = middle
+    # Further ones are worked out only as far as they are needed.
+    while beyond == number + 1 and course.reach_anchor(beyond, last) and not seeker.is_in(course.anchor(beyond)[1]):
+        number += 1
+        beyond += 1
+    return number
+
+
 def seek(course, seeker):
     """Move a seeker on from 0 rows to the piece that has what it seeks: (block, number of the piece), or None."""
     at = seek_among(course.near_spans(), seeker)
     if at is not None:
         return (0, at)
-    last = course.block_at(ROWS) + 1
-    number = 0
-    while course.reach_anchor(number + 1, last) and not seeker.is_in(course.anchor(number + 1)[1]):
-        number += 1
-    block, span = course.anchor(number)
+    block, span = course.anchor(last_anchor_ahead(course, seeker, course.block_at(ROWS) + 1))
     seeker.pass_over(span)
     return seek_from(course, seeker, block, zeros_of(course.fanout, block))

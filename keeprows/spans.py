@@ -9,7 +9,7 @@ from keeprows.turns import KINDS
 
 # What happened to one page stands in one number, with so many bits for each kind: there are at most 10 ** 30 of each.
 BITS = 104
-MASK = (1 << BITS) - 1
+MASK = (1 << 104) - 1
 # Where two of the kinds stand among KINDS.
 RECORD_PART = 3
 WRITE_PART = 4

@@ -8,6 +8,7 @@ from keeprows.copies import Change, Copy, change, copy_at
 from keeprows.crashes import Disk, disk
 from keeprows.far import Far
 from keeprows.packing import Packing
+from keeprows.scans import Scans
 from keeprows.settings import Settings
 from keeprows.stores import Store
 from keeprows.turns import Tally, Turn
@@ -32,7 +33,7 @@ def strange_objects():
         ValueError("5"), errors.StoreError("5"), errors.InvalidRow(5), errors.LimitExceeded, Settings, Packing,
         settings, Packing(settings), settings.length_of, errors, Turn([], [], 0), Tally({}), Store(settings), Store,
         Far(settings), Far(settings).behind(5), Far, disk(Far(settings), 5), copy_at(Far(settings), 5), Disk, Copy,
-        change(Far(settings), 5, 6), Change,
+        change(Far(settings), 5, 6), Change, Scans(Far(settings)), Scans,
     ]
 
 

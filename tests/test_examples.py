@@ -1,4 +1,14 @@
-"""The examples of the document, up to the promises that have landed.
+"""The examples of the document, each behind the promise ahead of it.
+
+[9]
+
+>>> from keeprows.settings import Settings
+>>> from keeprows.texts import read_settings, settings_text
+>>> settings = Settings([2, 1, 3], 5, fanout=2, records=3, every=4, keep=9)
+>>> [settings_text(settings), settings.length_of(10 ** 29)]
+['lengths 2 1 3\\nsize 5\\nfanout 2\\nrecords 3\\nevery 4\\nkeep 9\\n', 1]
+>>> read_settings("lengths 2 1 3\\nsize 5\\nfanout 2\\nrecords 3\\nevery 4\\nkeep 9\\n") == settings
+True
 
 [14]
 
@@ -109,6 +119,60 @@ True
 >>> [record_place(settings, 8), log_total(settings, 8), log_takes(settings, 8), take_row(settings, 5)]
 [(1, 1), 2, 5, 9]
 
+[50]
+
+>>> from keeprows.settings import Settings
+>>> from keeprows.far import Far
+>>> from keeprows.roles import page_with, role_at
+>>> far = Far(Settings([1], 2, fanout=2, records=2, every=4, keep=3))
+>>> [role_at(far, 4, 9), role_at(far, 4, 7), page_with(far, ("heap", 3), 9)]
+[('node', 1, 1), ('waiting', 1), 8]
+
+[52]
+
+>>> from keeprows.settings import Settings
+>>> from keeprows.far import Far
+>>> from keeprows.roles import last_taken, next_taken, taken, takes
+>>> far = Far(Settings([1], 2, fanout=2, records=2, every=4, keep=3))
+>>> [takes(far, 4, 12), takes(far, 4, 12, kind="node"), taken(far, 4, 1), last_taken(far, 4, 8), next_taken(far, 1, 9)]
+[2, 1, (8, ('node', 1, 1)), (2, ('heap', 1)), (12, ('node', 0, 3))]
+
+[53]
+
+>>> from keeprows.settings import Settings
+>>> from keeprows.far import Far
+>>> from keeprows.roles import role_span
+>>> far = Far(Settings([1], 2, fanout=2, records=2, every=4, keep=3))
+>>> [role_span(far, 4, moment) for moment in (2, 6, 7, 8, 10)]
+[(None, 0, 3), (('heap', 1), 3, 7), (('waiting',), 7, 8), (('free',), 8, 9), (('node', 1, 1), 9, 11)]
+
+[54]
+
+>>> from keeprows.settings import Settings
+>>> from keeprows.far import Far
+>>> from keeprows.roles import home, homes
+>>> far = Far(Settings([1], 2, fanout=2, records=2, every=4, keep=3))
+>>> [[home(far, number) for number in range(6)], homes(far, (1, 0))]
+[[1, 4, 0, 8, 3, 10], [(5, 7, 6), (9, 11, 2)]]
+
+[57]
+
+>>> from keeprows.settings import Settings
+>>> from keeprows.far import Far
+>>> from keeprows.wear import most_worn, wear_of, wear_row
+>>> far = Far(Settings([1], 2, fanout=2, records=2, every=4, keep=3))
+>>> [wear_row(far, 8), most_worn(far, 8), wear_of(far, 0, 8), wear_of(far, 0, 8, kind="record")]
+[[3, 1, 1, 4, 1, 1, 0, 2, 1], (3, 4), 3, 2]
+
+[60]
+
+>>> from keeprows.settings import Settings
+>>> from keeprows.far import Far
+>>> from keeprows.wear import last_writing, next_writing, spent, worn_out, writing
+>>> far = Far(Settings([1], 2, fanout=2, records=2, every=4, keep=3))
+>>> [writing(far, 0, 2), last_writing(far, 3, 8), next_writing(far, 5, 0), spent(far, 8), worn_out(far, 4)]
+[(7, 'write'), (5, 'record'), (7, 'write'), (28, 8), (5, 3)]
+
 [66]
 
 >>> from keeprows.settings import Settings
@@ -132,6 +196,26 @@ True
 [('heap', 2, 4, 6), None, ('node', 0, 0, ((1, 4),)), ('node', 1, 0, ((0, 2), (1, 5)))]
 >>> [sorted(change(far, 4, 6).contents), change(far, 4, 6).gone, rows_in(copy_at(far, 6))]
 [[0, 2, 5, 6], [1], [3, 4, 5]]
+
+[72]
+
+>>> from keeprows.settings import Settings
+>>> from keeprows.far import Far
+>>> from keeprows.scans import Scans, jumps
+>>> far = Far(Settings([1], 2, fanout=2, records=2, every=4, keep=3))
+>>> scans = Scans(far)
+>>> [scans.row_scan(9), scans.index_scan(9, 6, 8), jumps([1, 2, 5, 8, 4, 6, 3])]
+[[8, 3], [1, 2, 5, 8, 4, 6, 3], (5, 16)]
+
+[74]
+
+>>> from keeprows.settings import Settings
+>>> from keeprows.far import Far
+>>> from keeprows.scans import Scans
+>>> far = Far(Settings([1], 2, fanout=2, records=2, every=4, keep=3))
+>>> scans = Scans(far)
+>>> [scans.jump_sum(0, 5), scans.jump_sum(2, 2), scans.jump_sum(3, 5)]
+[(5, 27), (0, 0), (2, 12)]
 
 [76]
 
@@ -173,7 +257,7 @@ class ExamplesTest(unittest.TestCase):
     def test_the_examples(self):
         failed, tried = doctest.testmod(sys.modules[__name__])
         self.assertEqual(failed, 0)
-        self.assertEqual(tried, 84)
+        self.assertEqual(tried, 131)
 
 
 if __name__ == "__main__":

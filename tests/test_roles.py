@@ -243,7 +243,7 @@ class SpanTest(unittest.TestCase):
             far = Far(settings)
             for moment in near_borders(settings, chance, 3) + [ROWS, ROWS - 1, chance.randint(0, ROWS)]:
                 book = far.behind(moment)
-                for page in chance.sample(range(book.file_size()), min(10, book.file_size())):
+                for page in chance.sample(range(book.file_size()), min(5, book.file_size())):
                     self.check_stretch(far, page, moment, book.role(page))
 
     def check_stretch(self, far, page, moment, role):
