@@ -7,9 +7,11 @@ its own bits.
 
 from keeprows.courses import zeros_of
 from keeprows.nodes import power
-from keeprows.spans import joined, pool_of, still_span
+from keeprows.spans import joined, pool_of
 from keeprows.states import do_row
 
+# So many pairs at most are kept as a list: with more of them a table is quicker.
+MANY_PAIRS = 1024
 # Counts are multiplied by numbers of pages, of which there are some hundred, and added up: for that there is room.
 ROOM = 13
 
@@ -52,11 +54,16 @@ def packed(numbers, bits):
     return numbers[0]
 
 
-def add_pairs(table, span, part):
-    """Add the pairs of a part that follows a span to a table over the positions ahead of the span."""
+def moved_pairs(part, span):
+    """Return the pairs of a part that follows a span, by the positions ahead of the span."""
     pool = pool_of(span, part)
-    for one, other in part.pairs:
-        table[pool[one]][pool[other]] += 1
+    return [(pool[one], pool[other]) for one, other in part.pairs]
+
+
+def add_pairs(table, pairs):
+    """Add pairs to a table over the same positions."""
+    for one, other in pairs:
+        table[one][other] += 1
 
 
 def add_table(table, pool, more):
@@ -79,7 +86,12 @@ class LinkCourse:
         self._course = course
         self._starts = {}
         self._rests = {}
-        # The tails for 1, 2 .. zeros, by phase, and the tables of the last of them, from which the next ones are made.
+        self._tails = {}
+        # Tails for so many zeros have few links; for one zero more, two more .. they are kept by phase, and so are the
+        # tables of the last of these, from which the next ones are made.
+        self._few_zeros = 0
+        while course.width * power(self.fanout, self._few_zeros + 1) <= MANY_PAIRS:
+            self._few_zeros += 1
         self._levels = []
         self._tables = {}
 
@@ -108,15 +120,32 @@ class LinkCourse:
 
     def tail_span(self, block, zeros):
         """Return the links of the tail of a block that ends with so many zeros, or more."""
+        if zeros <= self._few_zeros:
+            return self._few_links(block, zeros)
+        while len(self._levels) < zeros - self._few_zeros:
+            self._add_level()
+        return self._levels[zeros - self._few_zeros - 1][self._course.phase_of(block)]
+
+    def _few_links(self, block, zeros):
+        """Return the links of the tail of a block as pairs."""
         if zeros == 0:
             return self.rest_spans(block)[1]
-        while len(self._levels) < zeros:
-            self._add_level()
-        return self._levels[zeros - 1][self._course.phase_of(block)]
+        key = (zeros, self._course.phase_of(block))
+        if key not in self._tails:
+            span = self._course.tail_span(block, zeros - 1)
+            pairs = self._few_links(block, zeros - 1).pairs
+            step = power(self.fanout, zeros - 1)
+            for other in range(block + step, block + self.fanout * step, step):
+                pairs = pairs + moved_pairs(self.start_span(other), span)
+                span = joined(span, self._course.start_span(other))
+                pairs = pairs + moved_pairs(self._few_links(other, zeros - 1), span)
+                span = joined(span, self._course.tail_span(other, zeros - 1))
+            self._tails[key] = LinkSpan(span.order, pairs, [], 0)
+        return self._tails[key]
 
     def _add_level(self):
         """Make the tails for one more zero, of all phases."""
-        zeros = len(self._levels) + 1
+        zeros = self._few_zeros + len(self._levels) + 1
         step = power(self.fanout, zeros)
         bits = (self._course.width * step).bit_length() + ROOM
         tables = {}
@@ -135,21 +164,25 @@ class LinkCourse:
         """Return the table of the tail of a block, made of those for one zero less."""
         many = len(self._course.tail_span(block, zeros).order)
         span = self._course.tail_span(block, zeros - 1)
-        if zeros == 1:
-            table = [[0] * many for _ in range(many)]
-            add_pairs(table, still_span(), self.tail_span(block, 0))
-        else:
-            known = self._tables[self._course.phase_of(block)]
-            table = [row + [0] * (many - len(row)) for row in known]
-            table += [[0] * many for _ in range(many - len(known))]
+        table = self._widened_table(block, zeros - 1, many)
         step = power(self.fanout, zeros - 1)
         for other in range(block + step, block + self.fanout * step, step):
-            add_pairs(table, span, self.start_span(other))
+            add_pairs(table, moved_pairs(self.start_span(other), span))
             span = joined(span, self._course.start_span(other))
             later = self._course.tail_span(other, zeros - 1)
-            if zeros == 1:
-                add_pairs(table, span, self.tail_span(other, 0))
+            if zeros - 1 == self._few_zeros:
+                add_pairs(table, moved_pairs(self._few_links(other, zeros - 1), span))
             else:
                 add_table(table, pool_of(span, later), self._tables[self._course.phase_of(other)])
             span = joined(span, later)
         return table
+
+    def _widened_table(self, block, zeros, many):
+        """Return the table of the tail of a block over so many positions, which are more than it has."""
+        if zeros == self._few_zeros:
+            table = [[0] * many for _ in range(many)]
+            add_pairs(table, self._few_links(block, zeros).pairs)
+            return table
+        known = self._tables[self._course.phase_of(block)]
+        table = [row + [0] * (many - len(row)) for row in known]
+        return table + [[0] * many for _ in range(many - len(known))]
