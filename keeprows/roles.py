@@ -6,16 +6,11 @@ from keeprows.far import check_far
 from keeprows.nodes import power
 from keeprows.packing import Packing
 from keeprows.questions import role_of
-from keeprows.times import time_of, times_of
+from keeprows.times import kinds_for, time_of, times_of
 from keeprows.trees import is_node, node_times
 
 # As what a page is taken.
 TAKES = ("heap", "node", "log")
-
-
-def kinds_for(kind):
-    """Return the kinds of takings that are asked for: one, or all of them."""
-    return TAKES if kind is None else (kind,)
 
 
 def is_role(settings, role):
@@ -60,7 +55,7 @@ def takes(far, page, moment, *, kind=None):
     check_page(page)
     check_moment(moment)
     check_kind(kind, TAKES)
-    return times_of(far, page, moment, kinds_for(kind))
+    return times_of(far, page, moment, kinds_for(kind, TAKES))
 
 
 def taking(far, page, number, kinds):
@@ -77,7 +72,7 @@ def taken(far, page, number, *, kind=None):
     check_page(page)
     check_number_from(number, 0)
     check_kind(kind, TAKES)
-    return taking(far, page, number, kinds_for(kind))
+    return taking(far, page, number, kinds_for(kind, TAKES))
 
 
 def last_taken(far, page, moment):

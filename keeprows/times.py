@@ -7,6 +7,11 @@ from keeprows.states import do_row
 from keeprows.turns import KINDS
 
 
+def kinds_for(kind, kinds):
+    """Return the kinds that are asked for: one of some kinds, or all of them if it is None."""
+    return kinds if kind is None else (kind,)
+
+
 class TimesSeeker:
     """Seeks the time with a number that something of some kinds happens to a page, wherever the page comes."""
 

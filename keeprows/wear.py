@@ -6,15 +6,10 @@ from keeprows.packing import units_ahead
 from keeprows.searches import seek
 from keeprows.spans import writes_of
 from keeprows.states import do_row, give_pages
-from keeprows.times import time_of, times_of
+from keeprows.times import kinds_for, time_of, times_of
 
 # How a page is written.
 WRITES = ("record", "write")
-
-
-def kinds_for(kind):
-    """Return the kinds of writings that are asked for: one, or both."""
-    return WRITES if kind is None else (kind,)
 
 
 def wear_of(far, page, moment, *, kind=None):
@@ -23,7 +18,7 @@ def wear_of(far, page, moment, *, kind=None):
     check_page(page)
     check_moment(moment)
     check_kind(kind, WRITES)
-    return times_of(far, page, moment, kinds_for(kind))
+    return times_of(far, page, moment, kinds_for(kind, WRITES))
 
 
 def wear_row(far, moment):
