@@ -7,7 +7,7 @@ from keeprows.nodes import power
 from keeprows.packing import Packing
 from keeprows.questions import role_of
 from keeprows.times import kinds_for, time_of, times_of
-from keeprows.trees import is_node, node_times
+from keeprows.trees import covered, is_node, node_times
 
 # As what a page is taken.
 TAKES = ("heap", "node", "log")
@@ -91,15 +91,12 @@ def next_taken(far, page, moment):
 def node_end(settings, node, row):
     """Return with which row a node is given back that is taken with a row."""
     packing = Packing(settings)
-    level, index = node
-    step = power(settings.fanout, level)
-    first = index * settings.fanout * step
-    after = first + settings.fanout * step
-    if level == 0:
+    first, after = covered(settings, node)
+    if node[0] == 0:
         return packing.start_of(after) - 1 + settings.keep
     end = row + settings.keep - 1
     # It stays if its next border begins ahead of its end, or with the very row of it.
-    for page in range(first, after + 1, step):
+    for page in range(first, after + 1, power(settings.fanout, node[0])):
         start = packing.start_of(page)
         if row < start <= end:
             end = start + settings.keep - 1

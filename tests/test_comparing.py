@@ -205,7 +205,7 @@ class LeastTest(unittest.TestCase):
                     self.check_points(fars, points[at][0], points[min(at + 20, len(points)) - 1][0], points[at:at + 20])
             else:
                 self.check_points(fars, 0, ROWS, points)
-        self.assertGreater(limited, 5)
+        self.assertGreater(limited, 2)
 
     def all_growths(self, far):
         """All growths of a file, some at a time."""
