@@ -294,6 +294,21 @@ class BlocksTest(unittest.TestCase):
                 self.assertEqual(sums["record"], rows)
 
 
+    def test_phases_that_only_blocks_with_zeros_have(self):
+        for settings in [
+            make([1], 17, 2, 3, 16, 1), make([1], 9, 2, 8, 8, 3), make([1], 17, 4, 1, 16, 1), make([1], 17, 8, 5, 16, 9),
+        ]:
+            self.assertGreater(phases(settings)[0], blocks(settings)[0])
+            far, store = Far(settings), Store(settings)
+            while store.moment() < 4000:
+                store.steps(37)
+                self.assertEqual(answers(far.behind(store.moment())), answers(store))
+            for block in [2 ** 40, 3 * 2 ** 30 - 1, 5 * 8 ** 20 + 1]:
+                turn, tally = run_plainly(settings, far, block, block + 3)
+                self.assertTrue(far.moves(block, block + 3) == turn)
+                self.assertTrue(far.counts(block, block + 3) == tally)
+
+
 class SpeedTest(unittest.TestCase):
 
     def test_some_hundred_far_questions_take_seconds(self):
