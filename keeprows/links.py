@@ -24,6 +24,7 @@ class LinkSpan:
         self.pairs = pairs
         self.rows = rows
         self.bits = bits
+        self.total = sum(rows)
 
 
 def run_pairs(state, end):

@@ -44,21 +44,19 @@ def descent_in(part, pages):
     descent = sum([max(0, pages[one] - pages[other]) for one, other in part.pairs])
     if not part.rows:
         return descent
-    # All at once: links by their second position, only those to lower pages, and times the page of the first one.
+    # A link counts once for each step between two pages over which it leads down, all links at once.
     mask = (1 << part.bits) - 1
-    lower = 0
-    links = 0
-    weighed = 0
-    for page, one in sorted([(pages[position], position) for position in range(len(part.rows))]):
-        low = part.rows[one] & lower
-        links += low
-        weighed += page * low
-        lower |= mask << (part.bits * one)
+    above = part.total
+    below = 0
+    crossing = 0
+    places = sorted([(pages[position], position) for position in range(len(part.rows))])
+    for at in range(len(places) - 1):
+        page, one = places[at]
+        above -= part.rows[one]
+        below |= mask << (part.bits * one)
+        crossing += (above & below) * (places[at + 1][0] - page)
     # What is left when the greatest number of so many bits is divided out is the sum of all of them.
-    descent += weighed % mask
-    for position in range(len(part.rows)):
-        descent -= pages[position] * ((links >> (part.bits * position)) & mask)
-    return descent
+    return descent + crossing % mask
 
 
 def pages_behind(part, pages):

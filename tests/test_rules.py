@@ -189,6 +189,29 @@ class RulesTest(unittest.TestCase):
                 if isinstance(node, ast.BinOp) and isinstance(node.op, ast.Pow):
                     self.assertIsInstance(node.right, ast.Constant, path)
 
+    def test_sets_stand_in_sorted(self):
+        for path, tree in package_trees():
+            calls = [node for node in ast.walk(tree) if isinstance(node, ast.Call) and isinstance(node.func, ast.Name)]
+            allowed = [argument for call in calls if call.func.id in ("sorted", "len") for argument in call.args]
+            for call in calls:
+                if call.func.id in ("set", "frozenset"):
+                    self.assertIn(call, allowed, path)
+
+    def test_values_at_module_level_are_plain(self):
+        for path, tree in package_trees():
+            for node in tree.body:
+                if isinstance(node, ast.Assign):
+                    self.assertEqual(len(node.targets), 1)
+                    for part in ast.walk(node.value):
+                        self.assertNotIsInstance(part, (ast.Call, ast.Name, ast.Attribute, ast.Dict, ast.List), path)
+
+    def test_default_values_are_plain(self):
+        for path, tree in package_trees():
+            for node in ast.walk(tree):
+                if isinstance(node, ast.arguments):
+                    for told in node.defaults + [one for one in node.kw_defaults if one is not None]:
+                        self.assertIsInstance(told, ast.Constant, path)
+
     def test_raised_errors_are_created_on_the_spot(self):
         for path, tree in package_trees():
             for node in ast.walk(tree):
